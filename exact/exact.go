@@ -74,13 +74,8 @@ func Floor(a string) (string, api.Errno) {
 	return whole.Text(), api.OK
 }
 
-// read looks at the length first: the rest then takes no longer for a text
-// that is far too long.
 func read(a string) (ratio.Fraction, api.Errno) {
-	if len(a) > api.MaxText {
-		return ratio.Fraction{}, api.ErrText
-	}
-	x, ok := ratio.Parse(a)
+	x, ok := ratio.Read(a)
 	if !ok {
 		return ratio.Fraction{}, api.ErrText
 	}

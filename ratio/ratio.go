@@ -3,7 +3,12 @@
 // longer than that.
 package ratio
 
-import "portion/natural"
+import (
+	"strconv"
+
+	"portion/api"
+	"portion/natural"
+)
 
 // Fraction is a value that Parse or a call of this package gave. It is in
 // lowest terms, its bottom is 1 or more, and 0 has no minus: so each value has
@@ -12,6 +17,23 @@ type Fraction struct {
 	minus  bool
 	top    natural.Number
 	bottom natural.Number
+}
+
+// Whole gives a whole number.
+func Whole(n int) Fraction {
+	text := strconv.Itoa(n)
+	value, _ := Parse(text)
+	return value
+}
+
+// Read reads a fraction that a caller hands in: one of at most MaxText bytes.
+// The length is looked at first: the rest then takes no longer for a text that
+// is far too long.
+func Read(text string) (Fraction, bool) {
+	if len(text) > api.MaxText {
+		return Fraction{}, false
+	}
+	return Parse(text)
 }
 
 // Parse reads a fraction in the one form that its value has; false if the text

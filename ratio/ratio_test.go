@@ -1,10 +1,13 @@
 package ratio_test
 
 import (
+	"math"
 	"math/big"
+	"strconv"
 	"strings"
 	"testing"
 
+	"portion/api"
 	"portion/ratio"
 )
 
@@ -66,6 +69,30 @@ func TestReckon(t *testing.T) {
 			if a.Text() != s || b.Text() != u {
 				t.Errorf("%.40s and %.40s were written into", s, u)
 			}
+		}
+	}
+}
+
+func TestWhole(t *testing.T) {
+	for _, n := range []int{0, 1, -1, 9999, 10000, -10000, 100010000, math.MaxInt, math.MinInt} {
+		if got := ratio.Whole(n).Text(); got != strconv.Itoa(n) {
+			t.Errorf("Whole(%d) is %s", n, got)
+		}
+	}
+}
+
+func TestReadTakesNoLongText(t *testing.T) {
+	nines := strings.Repeat("9", api.MaxText)
+	for _, s := range []string{"0", "-7/3", nines, "-" + nines[1:], "1/" + nines[2:]} {
+		a, ok := ratio.Read(s)
+		if !ok || a.Text() != s {
+			t.Errorf("Read(%.40q) = %.40s, %v", s, a.Text(), ok)
+		}
+	}
+	for _, s := range []string{"", "2/4", "9" + nines, "-" + nines, "1/" + nines[1:]} {
+		a, ok := ratio.Read(s)
+		if ok || a.Text() != (ratio.Fraction{}).Text() {
+			t.Errorf("Read(%.40q) = %.40s, %v, want nothing, false", s, a.Text(), ok)
 		}
 	}
 }
