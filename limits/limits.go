@@ -1,14 +1,28 @@
-// Package limits: what pools and users may be. Dues and fleets both ask it.
+// Package limits: what pools, sizes and users may be. Dues and fleets both ask
+// it.
 package limits
 
 import "portion/api"
 
 // IsPool tells whether these are 1 to MaxKinds amounts.
 func IsPool(pool []int) bool {
-	if len(pool) < 1 || len(pool) > api.MaxKinds {
+	if !IsKinds(len(pool)) {
 		return false
 	}
-	return areAmounts(pool)
+	return areUpTo(pool, api.MaxAmount)
+}
+
+// IsKinds tells whether there may be so many kinds.
+func IsKinds(kinds int) bool {
+	return kinds >= 1 && kinds <= api.MaxKinds
+}
+
+// IsSize tells whether a machine of so many kinds may have this size.
+func IsSize(size []int, kinds int) bool {
+	if len(size) != kinds {
+		return false
+	}
+	return areUpTo(size, api.MaxSize)
 }
 
 // IsUser tells whether u is a user of so many kinds.
@@ -16,18 +30,28 @@ func IsUser(u api.User, kinds int) bool {
 	if len(u.Demand) != kinds {
 		return false
 	}
-	if u.Weight < 1 || u.Weight > api.MaxWeight || u.Cap < 0 || u.Cap > api.MaxCap {
+	if !IsWeight(u.Weight) || !IsCap(u.Cap) {
 		return false
 	}
-	if !areAmounts(u.Demand) {
+	if !areUpTo(u.Demand, api.MaxAmount) {
 		return false
 	}
 	return wantsSome(u)
 }
 
-func areAmounts(list []int) bool {
+// IsWeight tells whether a user may have this weight.
+func IsWeight(weight int) bool {
+	return weight >= 1 && weight <= api.MaxWeight
+}
+
+// IsCap tells whether a user may have this cap.
+func IsCap(most int) bool {
+	return most >= 0 && most <= api.MaxCap
+}
+
+func areUpTo(list []int, most int) bool {
 	for _, amount := range list {
-		if amount < 0 || amount > api.MaxAmount {
+		if amount < 0 || amount > most {
 			return false
 		}
 	}

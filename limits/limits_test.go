@@ -21,6 +21,36 @@ func TestIsPool(t *testing.T) {
 	}
 }
 
+func TestIsSize(t *testing.T) {
+	for _, size := range [][]int{{0}, {api.MaxSize}, {0, 0, 0, 0}, {1, api.MaxSize}} {
+		if !limits.IsSize(size, len(size)) {
+			t.Errorf("%v is refused", size)
+		}
+		if limits.IsSize(size, len(size)-1) || limits.IsSize(size, len(size)+1) {
+			t.Errorf("%v is taken for other kinds", size)
+		}
+	}
+	for _, size := range [][]int{{-1}, {api.MaxSize + 1}, {1, -1}, {1, 1, 1, api.MaxSize + 1}, {math.MinInt}, {math.MaxInt}} {
+		if limits.IsSize(size, len(size)) {
+			t.Errorf("%v is taken", size)
+		}
+	}
+}
+
+func TestSingleLimits(t *testing.T) {
+	for _, n := range []int{math.MinInt, -1, 0, 1, 2, api.MaxKinds, api.MaxKinds + 1, api.MaxWeight, api.MaxWeight + 1, api.MaxCap, api.MaxCap + 1, math.MaxInt} {
+		if limits.IsKinds(n) != (n >= 1 && n <= 4) {
+			t.Errorf("IsKinds(%d)", n)
+		}
+		if limits.IsWeight(n) != (n >= 1 && n <= 100) {
+			t.Errorf("IsWeight(%d)", n)
+		}
+		if limits.IsCap(n) != (n >= 0 && n <= 1000) {
+			t.Errorf("IsCap(%d)", n)
+		}
+	}
+}
+
 func TestIsUser(t *testing.T) {
 	for _, c := range []struct {
 		demand       []int
