@@ -39,17 +39,35 @@ func (c command) runOn(f *fleet.Fleet) (int, api.Errno) {
 		return 0, f.Submit(c.a, c.b)
 	case "Cancel":
 		return 0, f.Cancel(c.a, c.b)
+	case "Tick":
+		return 0, f.Tick(c.a)
 	}
 	return 0, f.Finish(c.a, c.b)
 }
 
 // reckon is the same by the second reckoning.
 func (c command) reckon(r *reckoned) (int, api.Errno) {
+	if c.name == "Tick" {
+		return 0, c.tick(r)
+	}
 	n, e := c.begin(r)
 	if e == api.OK {
 		r.settle()
 	}
 	return n, e
+}
+
+func (c command) tick(r *reckoned) api.Errno {
+	if outside(c.a, 1, 1000) {
+		return api.ErrCount
+	}
+	if r.clock+c.a > 1000000 {
+		return api.ErrClock
+	}
+	for range c.a {
+		r.passUnit()
+	}
+	return api.OK
 }
 
 func (c command) begin(r *reckoned) (int, api.Errno) {
@@ -150,11 +168,26 @@ func (r *reckoned) picture() string {
 			w, d, e = r.users[u].count(-1), r.users[u].due.RatString(), api.OK
 		}
 		n, g := 0, api.ErrNone
-		if 0 <= u && u < len(r.users) {
+		if r.hadUser(u) {
 			n, g = r.users[u].revoked, api.OK
 		}
 		fmt.Fprintln(&b, w, e, d, e, n, g)
+		for k := -1; k <= api.MaxKinds; k++ {
+			n, e := 0, api.ErrNone
+			if r.hadUser(u) && r.hasKind(k) {
+				n, e = r.users[u].used[k], api.OK
+			}
+			fmt.Fprint(&b, n, ",", e, " ")
+		}
 	}
+	for k := -1; k <= api.MaxKinds; k++ {
+		n, e := 0, api.ErrNone
+		if r.hasKind(k) {
+			n, e = r.idle[k], api.OK
+		}
+		fmt.Fprint(&b, n, ",", e, " ")
+	}
+	fmt.Fprintln(&b, r.clock)
 	return b.String()
 }
 
@@ -220,7 +253,7 @@ func (d drawing) most(r *rand.Rand) int {
 // next draws a command that is mostly fine; number n of a run.
 func (d drawing) next(r *rand.Rand, n int) command {
 	u, m := r.Intn(min(api.MaxUsers, 3+n/6)), r.Intn(min(d.machines, api.MaxMachines))
-	switch c := r.Intn(40); {
+	switch c := r.Intn(48); {
 	case n < d.machines && n < 3 || c < 2 && n > d.machines:
 		return command{name: "AddMachine", list: d.sizes(r)}
 	case n < 6 || c < 4:
@@ -235,6 +268,8 @@ func (d drawing) next(r *rand.Rand, n int) command {
 		return command{name: "Submit", a: u, b: 1 + r.Intn(d.tasks)}
 	case c < 28:
 		return command{name: "Cancel", a: u, b: 1 + r.Intn(3)}
+	case c < 36:
+		return command{name: "Tick", a: 1 + r.Intn(5)}
 	}
 	return command{name: "Finish", a: u, b: m}
 }
@@ -246,7 +281,7 @@ func wrong(r *rand.Rand, kinds int) command {
 	n := none[r.Intn(len(none))]
 	ones := slices.Repeat([]int{1}, kinds)
 	bad := [][]int{nil, ones[1:], append(slices.Clone(ones), 1), append(slices.Clone(ones[1:]), -1), append(slices.Clone(ones[1:]), 10001)}[r.Intn(5)]
-	switch r.Intn(10) {
+	switch r.Intn(11) {
 	case 0:
 		return command{name: "AddMachine", list: bad}
 	case 1:
@@ -265,6 +300,8 @@ func wrong(r *rand.Rand, kinds int) command {
 		return command{name: "Cancel", a: r.Intn(6), b: []int{0, -1, 41}[r.Intn(3)]}
 	case 8:
 		return command{name: "Finish", a: n, b: 0}
+	case 9:
+		return command{name: "Tick", a: []int{0, api.MaxTick + 1, extremes[r.Intn(len(extremes))]}[r.Intn(3)]}
 	}
 	return command{name: "Finish", a: r.Intn(6), b: n}
 }

@@ -30,18 +30,35 @@ func TestDrawnRunsAgainstASecondReckoning(t *testing.T) {
 				t.Fatalf("P10 to P13: of %d kinds, %v: the last answers %d, %d, want %d, %d", d.kinds, said, number, e, wantNumber, want)
 			}
 			if got, want := picture(f), second.picture(); got != want {
-				t.Fatalf("P14, P15: of %d kinds, %v:\n%swant\n%s", d.kinds, said, got, want)
+				t.Fatalf("P14, P15, P17: of %d kinds, %v:\n%swant\n%s", d.kinds, said, got, want)
 			}
 			seen := look(f, second)
 			seen.check(t, before)
+			checkAccounts(t, f, second)
 			if t.Failed() {
 				t.Fatalf("of %d kinds, %v", d.kinds, said)
 			}
 		}
 	}
-	for _, event := range []string{"machines equally tight", "goals met behind filling up", "machines with more or fewer tasks off", "machines with as many tasks off", "nobody can give way", "equal levels at giving way", "put back", "equal levels at filling up", "a lower level at filling up"} {
+	for _, event := range []string{"time with room idle", "time with room used", "time behind a user that went", "time behind a machine that went", "machines equally tight", "goals met behind filling up", "machines with more or fewer tasks off", "machines with as many tasks off", "nobody can give way", "equal levels at giving way", "put back", "equal levels at filling up", "a lower level at filling up"} {
 		if events[event] < 20 {
 			t.Errorf("%s: only %d times; this tests little", event, events[event])
+		}
+	}
+}
+
+// checkAccounts holds all used and idle room against all the room that there
+// was.
+func checkAccounts(t *testing.T, f *fleet.Fleet, r *reckoned) {
+	t.Helper()
+	for k := range r.kinds {
+		sum, _ := f.Idle(k)
+		for u := range r.users {
+			n, _ := f.Used(u, k)
+			sum += n
+		}
+		if sum != r.offered[k] {
+			t.Errorf("P17: used and idle of kind %d come to %d, the machines to %d", k, sum, r.offered[k])
 		}
 	}
 }
@@ -204,13 +221,18 @@ func TestFleetsKnowNothingOfEachOther(t *testing.T) {
 	a, b := open(t, 1), open(t, 1)
 	addMachine(t, a, 0, 10)
 	addBusyUser(t, a, 0, user(1, 10, 3), 5)
+	answers(t, "Tick", a.Tick(2), api.OK)
 	before := picture(a)
+	if n := b.Clock(); n != 0 {
+		t.Errorf("P10: the clock of another fleet stands at %d", n)
+	}
 	if _, e := b.Waiting(0); e != api.ErrNone {
 		t.Errorf("P10: a user of another fleet is there: %d", e)
 	}
 	addUser(t, b, 0, user(7, 1, 2))
 	addMachine(t, b, 0, 1)
 	answers(t, "Submit", b.Submit(0, 9), api.OK)
+	answers(t, "Tick", b.Tick(5), api.OK)
 	answers(t, "DropMachine", b.DropMachine(0), api.OK)
 	answers(t, "DropUser", b.DropUser(0), api.OK)
 	if after := picture(a); after != before {
@@ -235,6 +257,7 @@ func TestEveryCallEndsAtAllNumbers(t *testing.T) {
 				f.Cancel(a, b)
 				f.Finish(a, b)
 				f.Running(a, b)
+				f.Used(a, b)
 				for _, c := range numbers {
 					f.Change(a, b, c)
 				}
@@ -242,6 +265,9 @@ func TestEveryCallEndsAtAllNumbers(t *testing.T) {
 			f.Waiting(a)
 			f.Due(a)
 			f.Revoked(a)
+			f.Tick(a)
+			f.Idle(a)
+			f.Clock()
 			f.DropMachine(a)
 			f.DropUser(a)
 		}

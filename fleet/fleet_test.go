@@ -72,7 +72,8 @@ func stands(t *testing.T, when string, f *fleet.Fleet, user int, due string, wai
 	}
 }
 
-// picture is all that a fleet answers of P14, also of numbers that are none.
+// picture is all that a fleet answers of P14 and P17, also of numbers that are
+// none.
 func picture(f *fleet.Fleet) string {
 	var b strings.Builder
 	for u := -1; u <= api.MaxUsers; u++ {
@@ -84,7 +85,16 @@ func picture(f *fleet.Fleet) string {
 		d, ed := f.Due(u)
 		r, er := f.Revoked(u)
 		fmt.Fprintln(&b, w, ew, d, ed, r, er)
+		for k := -1; k <= api.MaxKinds; k++ {
+			n, e := f.Used(u, k)
+			fmt.Fprint(&b, n, ",", e, " ")
+		}
 	}
+	for k := -1; k <= api.MaxKinds; k++ {
+		n, e := f.Idle(k)
+		fmt.Fprint(&b, n, ",", e, " ")
+	}
+	fmt.Fprintln(&b, f.Clock())
 	return b.String()
 }
 
@@ -334,6 +344,8 @@ func TestListsStayTheCallers(t *testing.T) {
 	size[0], demand[0] = 1, 10
 	answers(t, "Submit", f.Submit(0, 1), api.OK)
 	stands(t, "lists that were written into", f, 0, "10/3", 2, 0, 3)
+	answers(t, "Tick", f.Tick(1), api.OK)
+	accounts(t, "lists that were written into", f, []int{1, 17}, []int{9, 3})
 	answers(t, "DropMachine", f.DropMachine(0), api.OK)
 	addMachine(t, f, 1, 6, 6)
 	stands(t, "another machine", f, 0, "2", 3, 0, -1, 2)

@@ -9,14 +9,18 @@ import (
 	"portion/fill"
 )
 
-// A second reckoning of P10 to P15, by the document's words: every task is a
-// thing of its own, and a machine is cleared on a copy of the whole.
+// A second reckoning of P10 to P15 and P17, by the document's words: every task
+// is a thing of its own, a machine is cleared on a copy of the whole, and time
+// goes by one unit at a time.
 
 type reckoned struct {
 	kinds    int
 	machines [][]int // nil if gone
 	users    []*owner
-	events   map[string]int // how often a rule came to bear
+	clock    int
+	idle     [api.MaxKinds]int
+	offered  [api.MaxKinds]int // the pool, over all units of time
+	events   map[string]int    // how often a rule came to bear
 }
 
 type owner struct {
@@ -26,6 +30,7 @@ type owner struct {
 	due     *big.Rat
 	goal    int
 	revoked int
+	used    [api.MaxKinds]int
 }
 
 func (o *owner) count(where int) int {
@@ -61,6 +66,10 @@ func (r *reckoned) hasUser(n int) bool {
 	return 0 <= n && n < len(r.users) && !r.users[n].isGone
 }
 
+func (r *reckoned) hadUser(n int) bool { return 0 <= n && n < len(r.users) }
+
+func (r *reckoned) hasKind(k int) bool { return 0 <= k && k < r.kinds }
+
 func (r *reckoned) hasMachine(n int) bool {
 	return 0 <= n && n < len(r.machines) && r.machines[n] != nil
 }
@@ -88,6 +97,49 @@ func (r *reckoned) room(m int) []int {
 		}
 	}
 	return room
+}
+
+// passUnit looks at what stands there while one unit of time goes by: all room
+// that is left on a machine is idle, and every task that runs uses its own.
+func (r *reckoned) passUnit() {
+	r.clock++
+	r.noteTime()
+	for k, amount := range r.pool() {
+		r.offered[k] += amount
+	}
+	for m := range r.machines {
+		if !r.hasMachine(m) {
+			continue
+		}
+		for k, amount := range r.room(m) {
+			r.idle[k] += amount
+		}
+	}
+	for _, o := range r.users {
+		for range o.running() {
+			for k, amount := range o.Demand {
+				o.used[k] += amount
+			}
+		}
+	}
+}
+
+func (r *reckoned) noteTime() {
+	for m, size := range r.machines {
+		if size == nil {
+			r.events["time behind a machine that went"]++
+		} else if slices.Max(r.room(m)) > 0 {
+			r.events["time with room idle"]++
+		}
+	}
+	for _, o := range r.users {
+		if o.isGone && slices.Max(o.used[:]) > 0 {
+			r.events["time behind a user that went"]++
+		}
+		if o.running() > 0 {
+			r.events["time with room used"]++
+		}
+	}
 }
 
 func (r *reckoned) fits(u int, m int) bool {

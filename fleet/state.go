@@ -19,6 +19,7 @@ type userState struct {
 	on      [api.MaxMachines]int // how many tasks run on each machine
 	due     string
 	revoked int
+	used    amounts // so far
 }
 
 func (f *Fleet) hasMachine(number int) bool {
@@ -27,6 +28,15 @@ func (f *Fleet) hasMachine(number int) bool {
 
 func (f *Fleet) hasUser(number int) bool {
 	return number >= 0 && number < len(f.users) && f.users[number].isThere
+}
+
+// hadUser tells whether a number has been given, also to a user that is gone.
+func (f *Fleet) hadUser(number int) bool {
+	return number >= 0 && number < f.usersGiven
+}
+
+func (f *Fleet) hasKind(kind int) bool {
+	return kind >= 0 && kind < f.kinds
 }
 
 // running tells how many tasks run in all.
@@ -93,4 +103,20 @@ func (f *Fleet) giveWay(user int, machine int) {
 	f.users[user].on[machine]--
 	f.users[user].waiting++
 	f.users[user].revoked++
+}
+
+// account adds n units of time to the accounts. Nothing moves while time goes
+// by, so all n are alike.
+func (f *Fleet) account(n int) {
+	idle := f.pool()
+	for i := range f.users {
+		u := &f.users[i]
+		running := u.running()
+		wanted := u.demand.times(running)
+		idle = idle.minus(wanted)
+		wanted = wanted.times(n)
+		u.used = u.used.plus(wanted)
+	}
+	idle = idle.times(n)
+	f.idle = f.idle.plus(idle)
 }
